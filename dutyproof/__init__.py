@@ -1,0 +1,1 @@
+"""Dutyproof: works that come again, and whether each is done in time."""
