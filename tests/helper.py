@@ -1,0 +1,143 @@
+"""What several tests need: refusals of one class alone, works by chance of a told seed, and the bench turn by turn."""
+
+import random
+import unittest
+
+from dutyproof.duties import Duty
+from dutyproof.errors import BadWork, DutyError, TooMany
+from dutyproof.works import Work
+
+GREATEST = 10 ** 60 - 1
+NAMES = ["ale", "bun", "cup", "dye", "egg", "fan", "gin", "hat", "ice", "jug", "keg", "log"]
+THINGS = ["ink", "oven", "belt"]
+
+
+class Case(unittest.TestCase):
+    def assert_refused(self, kind, call, *given):
+        with self.assertRaises(DutyError) as caught:
+            call(*given)
+        self.assertIs(type(caught.exception), kind)
+        self.assertEqual(kind.__bases__, (DutyError,))
+        return caught.exception
+
+    def assert_whole(self, thing):
+        self.assertIs(type(thing), int)
+
+    def assert_list(self, thing, kind):
+        self.assertIs(type(thing), list)
+        self.assertTrue(all(type(part) is kind for part in thing), thing)
+
+    def assert_works(self, duty, works):
+        self.assertEqual(shown(duty), [fields(work) for work in works])
+
+
+def fields(work):
+    return (work.name, work.gap, work.length, work.due, work.late, work.held())
+
+
+def shown(duty):
+    return [fields(duty.work(at)) for at in range(duty.size())]
+
+
+def many(count, gap=1000, length=1, due=1):
+    """Works of unlike names."""
+    return [Work(NAMES[place] if place < 12 else "m" + "abcdefghijklmnopqrstuvwxyz"[place - 12], gap, length, due)
+            for place in range(count)]
+
+
+def chance(seed):
+    return random.Random(seed)
+
+
+def some_holds(dice, gap, length, most=6):
+    """A list of holds that go together, each tried by making a work of them."""
+    holds = []
+    for time in range(dice.randint(0, most)):
+        if length < 2:
+            break
+        start = dice.randint(0, length - 2)
+        tried = holds + [(dice.choice(THINGS), start, dice.randint(start + 1, length - 1))]
+        try:
+            Work("a", gap, length, None, 0, tried)
+        except BadWork:
+            continue
+        holds = tried
+    return holds
+
+
+def some_work(dice, name, held, scale=1, long=6):
+    gap = dice.randint(2, 40) * scale
+    length = dice.randint(1, long * scale)
+    due = dice.choice([gap, dice.randint(1, gap)])
+    late = dice.choice([0, 0, dice.randint(0, 6 * scale), dice.randint(0, 50 * scale)])
+    return Work(name, gap, length, due, late, some_holds(dice, gap, length) if held else [])
+
+
+def some_duty(dice, held=True, most=5, scale=1, long=6):
+    while True:
+        size = dice.randint(0, most)
+        try:
+            return Duty([some_work(dice, name, held, scale, long) for name in dice.sample(NAMES, size)])
+        except TooMany:
+            continue
+
+
+def some_row(dice, duty, most=12):
+    """A legal row, its works in any order of standing."""
+    row, last = [], {}
+    for time in range(dice.randint(0, most)):
+        if duty.size() == 0:
+            break
+        at = dice.randrange(duty.size())
+        work = duty.work(at)
+        come = dice.choice([0, dice.randint(0, 2 * work.gap)])
+        if at in last:
+            come = last[at] + work.gap + dice.choice([0, 0, dice.randint(0, work.gap)])
+        last[at] = come
+        late = dice.choice([0, work.late, dice.randint(0, work.late)])
+        row.append((at, come, late, dice.choice([work.length, dice.randint(1, work.length)])))
+    return row
+
+
+def slow_things(work, done):
+    return sorted(set(thing for thing, start, end in work.held() if done in range(start + 1, end)))
+
+
+def slow_ceiling(duty, thing):
+    users = [at for at in range(duty.size()) if thing in [hold[0] for hold in duty.work(at).held()]]
+    return min(users) if users else None
+
+
+def slow_rank(duty, at, done):
+    held = slow_things(duty.work(at), done)
+    return min([at] + [slow_ceiling(duty, thing) for thing in held]), len(held) > 0
+
+
+def goes_first(how, duty, row, waiting, dones):
+    """The place that goes first, found by point 15 sentence by sentence."""
+    told = {}
+    for place in waiting:
+        at, come, late, length = row[place]
+        if how == "ranks":
+            told[place] = slow_rank(duty, at, dones[place])
+        else:
+            told[place] = (come + duty.work(at).due if how == "due" else come), False
+    least = min(rank for rank, held in told.values())
+    left = [place for place in waiting if told[place][0] == least]
+    holders = [place for place in left if told[place][1]]
+    return min(holders or left)
+
+
+def slow_turns(how, duty, row):
+    """Who has each turn (a place, or None), from turn 0 on until all comings are done: point 16, turn by turn."""
+    dones, turns = [0] * len(row), []
+    while any(dones[place] < row[place][3] for place in range(len(row))):
+        waiting = [place for place, (at, come, late, length) in enumerate(row)
+                   if come + late <= len(turns) and dones[place] < length]
+        if waiting:
+            place = goes_first(how, duty, row, waiting, dones)
+            dones[place] += 1
+            turns.append(place)
+        else:
+            turns.append(None)
+    return turns
