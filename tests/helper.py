@@ -141,3 +141,42 @@ def slow_turns(how, duty, row):
         else:
             turns.append(None)
     return turns
+
+
+def slow_stretches(turns):
+    """The same turns as stretches, each as long as can be."""
+    told = []
+    for turn, place in enumerate(turns):
+        if place is None:
+            continue
+        if told and told[-1][0] == place and told[-1][2] == turn:
+            told[-1] = (place, told[-1][1], turn + 1)
+        else:
+            told.append((place, turn, turn + 1))
+    return told
+
+
+def scaled(duty, by):
+    """The duty with each of its numbers so many times as large."""
+    works = [duty.work(at) for at in range(duty.size())]
+    return Duty([Work(work.name, work.gap * by, work.length * by, work.due * by, work.late * by,
+                      [(thing, start * by, end * by) for thing, start, end in work.held()]) for work in works])
+
+
+def scaled_row(row, by):
+    return [(at, come * by, late * by, length * by) for at, come, late, length in row]
+
+
+def dense_row(dice, duty, most=40):
+    """A legal row as full as can be: each work comes again and again, from some turn near the others on."""
+    row = []
+    about = max([duty.work(at).late for at in range(duty.size())] + [0]) + dice.randint(0, 9)
+    for at in range(duty.size()):
+        work = duty.work(at)
+        come = max(0, about - work.late + dice.choice([0, 0, dice.randint(-6, 6)]))
+        for time in range(dice.randint(0, 1 + most // duty.size())):
+            late = min(work.late, max(0, about - come))
+            row.append((at, come, dice.choice([late, late, dice.randint(0, work.late)]),
+                        dice.choice([work.length] * 4 + [dice.randint(1, work.length)])))
+            come += work.gap + dice.choice([0] * 5 + [dice.randint(0, work.gap)])
+    return row[:200]
