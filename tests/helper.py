@@ -180,3 +180,26 @@ def dense_row(dice, duty, most=40):
                         dice.choice([work.length] * 4 + [dice.randint(1, work.length)])))
             come += work.gap + dice.choice([0] * 5 + [dice.randint(0, work.gap)])
     return row[:200]
+
+
+def greatest_number(duty):
+    """The greatest number of a duty's works; 0 where there is none."""
+    numbers = [0]
+    for at in range(duty.size()):
+        work = duty.work(at)
+        numbers += [work.gap, work.length, work.due, work.late]
+        numbers += [number for thing, start, end in work.held() for number in (start, end)]
+    return max(numbers)
+
+
+def slowly_full(duty, row, until=None):
+    """Some (from, until) from and until which a row is too full, or None; until a told turn, if one is told."""
+    told = [(come + late, come + duty.work(at).due, length) for at, come, late, length in row]
+    for end in sorted(set(due for ready, due, length in told)):
+        if until is not None and end != until:
+            continue
+        for begin in sorted(set(ready for ready, due, length in told)):
+            lengths = [length for ready, due, length in told if ready >= begin and due <= end]
+            if lengths and sum(lengths) > end - begin:
+                return begin, end
+    return None
